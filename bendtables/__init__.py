@@ -1,0 +1,1 @@
+"""Bendtables: tables of whole numbers that bend one way."""

@@ -1,0 +1,17 @@
+"""Kinds of values, asked of anything."""
+
+
+def is_number(thing):
+    """Whether it is a whole number."""
+    # Python counts truths as ints; here they are none.
+    return isinstance(thing, int) and not isinstance(thing, bool)
+
+
+def is_numbers(thing):
+    """Whether it is a tuple of whole numbers, perhaps of none."""
+    return isinstance(thing, tuple) and all(is_number(part) for part in thing)
+
+
+def is_row(thing):
+    """Whether it is a tuple of one or more whole numbers."""
+    return is_numbers(thing) and len(thing) > 0

@@ -1,0 +1,163 @@
+"""What the tests share: plain reckoning by the document's own words, tables to try, and things of every kind."""
+
+import copy
+import itertools
+import random
+
+
+def is_crooked_at(table, i, j, k, l):
+    """Point 7, word by word."""
+    if table[i][l] is None or table[j][k] is None:
+        return False
+    if table[i][k] is None or table[j][l] is None:
+        return True
+    return table[i][k] + table[j][l] > table[i][l] + table[j][k]
+
+
+def crooks(table):
+    """All places at which a table is crooked, as tuples rise."""
+    pairs = list(itertools.combinations(range(len(table)), 2))
+    columns = list(itertools.combinations(range(len(table[0])), 2))
+    return [(i, j, k, l) for i, j in pairs for k, l in columns if is_crooked_at(table, i, j, k, l)]
+
+
+def steps_right(table):
+    """Point 4's stepped, word by word."""
+    ahead = None
+    for row in table:
+        columns = [k for k, number in enumerate(row) if number is not None]
+        if not columns or columns != list(range(columns[0], columns[-1] + 1)):
+            return False
+        if ahead is not None and (columns[0] < ahead[0] or columns[-1] < ahead[-1]):
+            return False
+        ahead = columns
+    return True
+
+
+def plain_stretches(table):
+    """The first and the last column of each row of a stepped table."""
+    found = []
+    for row in table:
+        columns = [k for k, number in enumerate(row) if number is not None]
+        found.append((columns[0], columns[-1]))
+    return tuple(found)
+
+
+def plain_least(table, side):
+    """Point 10, word by word."""
+    places = []
+    for row in table:
+        numbers = [number for number in row if number is not None]
+        columns = [k for k, number in enumerate(row) if number is not None and number == min(numbers)]
+        if not columns:
+            places.append(None)
+        else:
+            places.append(columns[0] if side == "first" else columns[-1])
+    return tuple(places)
+
+
+def all_tables(rows, columns, numbers):
+    """Every table of a size whose entries are among these."""
+    for row_choice in itertools.product(itertools.product(numbers, repeat=columns), repeat=rows):
+        yield row_choice
+
+
+def all_small_tables():
+    """Every table of some small sizes, with and without places where nothing stands."""
+    yield from all_tables(1, 1, (None, -1, 0, 1))
+    yield from all_tables(1, 4, (None, 0, 1))
+    yield from all_tables(4, 1, (None, 0, 1))
+    yield from all_tables(2, 2, (None, -1, 0, 1))
+    yield from all_tables(2, 3, (None, 0, 1))
+    yield from all_tables(3, 2, (None, 0, 1))
+    yield from all_tables(3, 3, (None, 0))
+    yield from all_tables(3, 3, (0, 1))
+
+
+def some_stretches(chance, rows, columns):
+    """Stretches of a stepped table within so many columns."""
+    firsts = sorted(chance.randrange(columns) for _ in range(rows))
+    lasts = sorted(chance.randrange(columns) for _ in range(rows))
+    return tuple((first, max(first, last)) for first, last in zip(firsts, lasts))
+
+
+def bending_table(chance, stretches, columns, most_slack, most_step):
+    """A table that bends with these stretches; where no slack binds a number it is any."""
+    rows = []
+    for at, (first, last) in enumerate(stretches):
+        row = [None] * columns
+        for k in range(first, last + 1):
+            row[k] = chance.randint(-most_step, most_step)
+            if k > first:
+                row[k] += row[k - 1]
+            if at > 0 and k > first and rows[-1][k] is not None:
+                row[k] = rows[-1][k] + row[k - 1] - rows[-1][k - 1] - chance.randint(0, most_slack)
+        rows.append(row)
+    return tuple(tuple(row) for row in rows)
+
+
+def bending_tables(many, most_rows, most_columns, seed):
+    """Tables that bend, stepped ones and full ones, with few and with many like numbers; the same ones each time."""
+    chance = random.Random(seed)
+    for _ in range(many):
+        rows = chance.randint(1, most_rows)
+        columns = chance.randint(1, most_columns)
+        stretches = some_stretches(chance, rows, columns)
+        if chance.random() < 0.4:
+            stretches = ((0, columns - 1),) * rows
+        yield bending_table(chance, stretches, columns, chance.choice((0, 1, 3, 50)), chance.choice((0, 1, 5, 10 ** 40)))
+
+
+class CountedLook:
+    """A look at a table that refuses to be asked of a place twice, or beyond the stretches, and counts."""
+
+    def __init__(self, table):
+        self.table = table
+        self.seen = set()
+
+    def __call__(self, row, column):
+        if type(row) is not int or type(column) is not int:
+            raise AssertionError("a row or a column is no whole number")
+        if not 0 <= row < len(self.table) or not 0 <= column < len(self.table[0]) or self.table[row][column] is None:
+            raise AssertionError(f"looked beyond the stretches at {(row, column)}")
+        if (row, column) in self.seen:
+            raise AssertionError(f"looked twice at {(row, column)}")
+        self.seen.add((row, column))
+        return self.table[row][column]
+
+
+def deep(inner, make, many):
+    """Something as deep as asked."""
+    for _ in range(many):
+        inner = make(inner)
+    return inner
+
+
+def things():
+    """Things of every kind, new ones each time, none of which is a table, a rule, a paper or places."""
+    return [
+        None, True, False, 0, 1, -1, 10 ** 39, "", " ", "rows", "each", "bends", "1 2\n3 4", "x" * 4000,
+        (), [], {}, ((),), ((), ()), ([],), [()], [[]], ({},), {"rows": 1}, {1: (1,), "a": [2]},
+        (True,), (False,), ("",), ("a",), ((True,),), ((False, 0),), ((1, True),), (("1",),), ((1, "1"),),
+        [1], [(1,)], [[1]], ([1],), ((1,), [1]), ((1,), (1, 2)), ((1, 2), (1,)), ((1,), ()), ((1,), 1), ((1,), None),
+        (((1,),),), ((1,), ((1,),)), (None, None), ((1, [None]),), ((1, {}),),
+        ("rows",), ("each", "each"), ["each"], {"each": True}, ("each", None), ("bends",), ("crooked",),
+        deep((), lambda inner: (inner,), 30), deep([], lambda inner: [inner], 30), deep({}, lambda inner: {1: inner}, 30),
+        deep(1, lambda inner: (inner, inner), 10), deep(None, lambda inner: (None, inner), 29),
+        deep("x", lambda inner: ("both", inner, inner), 9), deep(1, lambda inner: ("both", inner), 29),
+        tuple(range(3999)) + ("",), [0] * 4000, tuple([()] * 4000), tuple([(1,)] * 1999 + [(True,)]),
+    ]
+
+
+def copied(thing):
+    """A copy that shares no list or dict with the thing."""
+    return copy.deepcopy(thing)
+
+
+def kinds_of(thing):
+    """A thing with the kind of each part told, so that 1 and True, or a list and a tuple, differ."""
+    if isinstance(thing, (tuple, list)):
+        return (type(thing).__name__, [kinds_of(part) for part in thing])
+    if isinstance(thing, dict):
+        return ("dict", [(kinds_of(key), kinds_of(worth)) for key, worth in thing.items()])
+    return (type(thing).__name__, thing)
