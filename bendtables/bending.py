@@ -23,7 +23,7 @@ def first_left(upper, lower):
     steepest = None
     for column in range(len(upper) - 1, -1, -1):
         steep = steepness(upper[column], lower[column])
-        if lower[column] is not None and steepest is not None and steepest > steep:
+        if steepest is not None and steepest > steep:
             found = column
         if upper[column] is not None and (steepest is None or steep > steepest):
             steepest = steep
@@ -32,8 +32,8 @@ def first_left(upper, lower):
 
 def steepness(over, under):
     """By how much a column rises from one row to the other, as a rank."""
-    # The rows are crooked at k < l, with numbers at both crossed places, just where l is steeper than k:
-    # so a lack below makes l steeper than all numbers do, a lack above makes k less steep than all.
+    # Where l has a number above, two rows are crooked at k < l just where l is steeper than k. So a lack below is
+    # steeper than all numbers: it makes each such l crooked, and no k. A lack above is less steep than all of them.
     if under is None:
         return (1, 0)
     if over is None:

@@ -15,3 +15,12 @@ def is_numbers(thing):
 def is_row(thing):
     """Whether it is a tuple of one or more whole numbers."""
     return is_numbers(thing) and len(thing) > 0
+
+
+def is_same(thing, told):
+    """Whether anything is the same as what is told, a truth and a number never being so."""
+    if isinstance(told, tuple):
+        if not isinstance(thing, tuple) or len(thing) != len(told):
+            return False
+        return all(is_same(part, right) for part, right in zip(thing, told))
+    return thing == told and isinstance(thing, bool) == isinstance(told, bool)

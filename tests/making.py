@@ -48,11 +48,12 @@ def plain_least(table, side):
     places = []
     for row in table:
         numbers = [number for number in row if number is not None]
-        columns = [k for k, number in enumerate(row) if number is not None and number == min(numbers)]
-        if not columns:
+        if not numbers:
             places.append(None)
-        else:
-            places.append(columns[0] if side == "first" else columns[-1])
+            continue
+        least = min(numbers)
+        columns = [k for k, number in enumerate(row) if number == least]
+        places.append(columns[0] if side == "first" else columns[-1])
     return tuple(places)
 
 

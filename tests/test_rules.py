@@ -84,6 +84,7 @@ class IsRuleTest(unittest.TestCase):
                 ("rows", thing), ("apart", thing, (1,)), ("apart", (1,), thing), ("square", thing, (1,)), ("square", (1,), thing),
                 ("short", thing, (1, 2), ((1,),)), ("short", (1, 2), thing, ((1,),)),
                 ("both", thing, APART), ("both", APART, thing), (thing, (1,), (1,)), (thing, (1,)), (thing,),
+                (thing, (1,), (1,), ()),
             ):
                 self.assertIs(is_rule(rule), False, rule)
 
@@ -106,7 +107,7 @@ class IsRuleTest(unittest.TestCase):
             ("short", (1, 2), (2, 2), ((1,),)), ("short", (1, 2), (1, 2), ()), ("short", (1, True), (1, 2), ((1,),)),
             ("short", (1, 2), (1, None), ((1,),)), ("short", (1, 2), (1,), ()), ("short", (1, 2), (1,), ((1,),)),
             ("short", (1,), (1, 2), ((1,),)), ("short", (1,), (True,), ()), ("short", (True,), (1,), ()),
-            ("short", (True,), (True,), ()),
+            ("short", (True,), (True,), ()), ("long", (1,), (1,), ()), ("rows", (1,), (1,), ()), ("both", (1,), (1,), ()),
             ("both", ROWS), ("both", ROWS, APART, APART), ("both",), ["both", ROWS, APART], ("both", ROWS, ["rows", ((1,),)]),
             ("both", ("apart", (1,), (1, 2)), ("apart", (1, 2), (1,))), ("both", ("apart", (1,), (1, 2)), ("apart", (1,), (1,))),
             ("both", BOTH, ("both", ("rows", ((1,),)), ("rows", ((1,),)))), ("both", BOTH, ("both", ROWS)),

@@ -71,6 +71,17 @@ class ReadTest(unittest.TestCase):
         ):
             self.refused(text)
 
+    def test_each_sign(self):
+        for sign in [chr(number) for number in range(ord(" "), ord("~") + 1)]:
+            if sign in "0123456789":
+                self.assertEqual(read_table(sign), ((int(sign),),))
+                self.assertEqual(read_table("1" + sign), ((10 + int(sign),),))
+            else:
+                self.refused("1" + sign)
+                self.refused(sign + "1" if sign != "-" else sign)
+                if sign != ".":
+                    self.refused(sign)
+
     def test_blanks_and_line_ends(self):
         for text in (
             "", " ", "\n", "1 ", " 1", "1  2", "1\t2", "1\n", "\n1", "1\n\n2", "1\r\n2", "1\r2", "1 \n2", "1\n 2", "1 2\n",
