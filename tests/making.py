@@ -162,3 +162,106 @@ def kinds_of(thing):
     if isinstance(thing, dict):
         return ("dict", [(kinds_of(key), kinds_of(worth)) for key, worth in thing.items()])
     return (type(thing).__name__, thing)
+
+
+def altered(thing):
+    """A right thing with one part altered, at each place: of another kind, left out, one too many, a number off."""
+    yield from altered_here(thing)
+    if isinstance(thing, tuple):
+        for at, part in enumerate(thing):
+            for other in altered(part):
+                yield thing[:at] + (other,) + thing[at + 1:]
+
+
+def altered_here(thing):
+    """What may stand for a part of a right thing, none of it right."""
+    others = [None, True, False, "", "0", "r", (), [], {}, [thing], (thing,), {0: thing}, 10 ** 39, -10 ** 39, (0,), ((0,),)]
+    if isinstance(thing, tuple):
+        others += [list(thing), thing + (0,), thing + (None,), thing + ((),), (0,) + thing, thing + thing, dict(enumerate(thing))]
+        others += [thing[1:], thing[:-1], tuple(reversed(thing)), thing + thing[-1:], thing[:1] + thing]
+    elif isinstance(thing, int):
+        others += [thing - 1, thing + 1, -thing, str(thing), thing + 10 ** 9]
+    for other in others:
+        if kinds_of(other) != kinds_of(thing):
+            yield other
+
+
+def square_bending_tables(many, most, seed):
+    """Full tables that bend, of as many rows as columns; the same ones each time."""
+    chance = random.Random(seed)
+    for _ in range(many):
+        size = chance.randint(1, most)
+        yield full_bending_table(chance, size, size)
+
+
+def full_bending_table(chance, rows, columns):
+    """A full table that bends, with few or with many like numbers, small or great ones."""
+    most_slack, most_step = chance.choice(((0, 0), (0, 1), (1, 0), (1, 1), (3, 5), (50, 40), (10 ** 9, 10 ** 9), (10 ** 40, 10 ** 40)))
+    return bending_table(chance, ((0, columns - 1),) * rows, columns, most_slack, most_step)
+
+
+def any_full_table(chance, rows, columns):
+    """A full table, bending or not, with few or with many like numbers, small or great ones."""
+    most = chance.choice((0, 1, 2, 9, 10 ** 9, 10 ** 50))
+    return tuple(tuple(chance.randint(-most, most) for _ in range(columns)) for _ in range(rows))
+
+
+def any_row(chance, many):
+    """A row of so many numbers, with few or with many like ones, small or great ones."""
+    most = chance.choice((0, 1, 2, 9, 10 ** 9, 10 ** 50))
+    return tuple(chance.randint(-most, most) for _ in range(many))
+
+
+def row_by_steps(start, steps):
+    """The row with this first number and these steps."""
+    return tuple(itertools.accumulate(steps, initial=start))
+
+
+def rising_row(chance, many):
+    """A row of so many numbers that bends up."""
+    steps = sorted(any_row(chance, many - 1))
+    return row_by_steps(chance.randint(-10 ** 9, 10 ** 9), steps)
+
+
+def all_rows(most_many, numbers):
+    """Every row of up to so many of these numbers."""
+    for many in range(1, most_many + 1):
+        yield from itertools.product(numbers, repeat=many)
+
+
+def plain_bends_up(row):
+    """Point 13's bending up, word by word."""
+    steps = [row[k + 1] - row[k] for k in range(len(row) - 1)]
+    return all(steps[k] <= steps[k + 1] for k in range(len(steps) - 1))
+
+
+def plain_joined(one, other):
+    """Point 13's joined rows, word by word."""
+    sums, firsts = [], []
+    for k in range(len(one) + len(other) - 1):
+        there = [i for i in range(len(one)) if 0 <= k - i < len(other)]
+        least = min(one[i] + other[k - i] for i in there)
+        sums.append(least)
+        firsts.append([i for i in there if one[i] + other[k - i] == least][0])
+    return (tuple(sums), tuple(firsts))
+
+
+def plain_product(one, other):
+    """Point 15's product and mids, word by word."""
+    sums, firsts = [], []
+    for i in range(len(one)):
+        line = [[one[i][j] + other[j][k] for j in range(len(other))] for k in range(len(other[0]))]
+        sums.append(tuple(min(worths) for worths in line))
+        firsts.append(tuple(worths.index(min(worths)) for worths in line))
+    return (tuple(sums), tuple(firsts))
+
+
+def way_sum(table, way):
+    """What the entries of a way come to."""
+    return sum(table[one][other] for one, other in zip(way, way[1:]))
+
+
+def all_ways(table, many, one, other):
+    """Every way of so many steps, as tuples rise."""
+    for between in itertools.product(range(len(table)), repeat=many - 1):
+        yield (one, *between, other)
