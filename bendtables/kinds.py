@@ -17,6 +17,11 @@ def is_row(thing):
     return is_numbers(thing) and len(thing) > 0
 
 
+def is_entries(thing):
+    """Whether it is a tuple of whole numbers and of None where nothing stands, perhaps of none."""
+    return isinstance(thing, tuple) and all(part is None or is_number(part) for part in thing)
+
+
 def is_same(thing, told):
     """Whether anything is the same as what is told, a truth and a number never being so."""
     if isinstance(told, tuple):

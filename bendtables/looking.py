@@ -7,6 +7,8 @@ three places for each column, and the columns halve as the rows do: in all it is
 column and nine for each row.
 """
 
+from bendtables.seeing import Seen
+
 
 def least_by(look, stretches, side):
     """The least places of the rows of a stepped table that bends, looked at by a look."""
@@ -18,13 +20,12 @@ def least_by(look, stretches, side):
 
 
 class Sight:
-    """A look with its stretches, that keeps what it saw, so that it looks at no place twice."""
+    """A look with its stretches, by which a row's columns are compared."""
 
     def __init__(self, look, stretches, side):
-        self.look = look
+        self.seen = Seen(look)
         self.stretches = stretches
         self.side = side
-        self.seen = {}
 
     def worth(self, row, column):
         """What a place of a row is compared by, the less the better."""
@@ -35,15 +36,7 @@ class Sight:
             return (1, -column)
         if column > last:
             return (2, column)
-        return (0, self.number_at(row, column))
-
-    def number_at(self, row, column):
-        """The number at a place within the stretches."""
-        place = (row, column)
-        if place not in self.seen:
-            look = self.look
-            self.seen[place] = look(row, column)
-        return self.seen[place]
+        return (0, self.seen.number_at(row, column))
 
     def goes_right(self, row, left, right):
         """Whether a row would rather have the right one of two columns."""

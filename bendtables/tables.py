@@ -1,6 +1,6 @@
 """Tables: what one is, how large it is, where its numbers stand."""
 
-from bendtables.kinds import is_number
+from bendtables.kinds import is_entries
 
 
 def is_table(thing):
@@ -14,9 +14,7 @@ def is_table(thing):
 
 def is_line(thing):
     """Whether anything can be a row of a table."""
-    if not isinstance(thing, tuple) or len(thing) == 0:
-        return False
-    return all(part is None or is_number(part) for part in thing)
+    return is_entries(thing) and len(thing) > 0
 
 
 def size_of(table):

@@ -303,8 +303,8 @@ class FileCheck:
 
     def check_function(self, node):
         parent = self.parents[node]
-        if not isinstance(parent, (ast.Module, ast.ClassDef)):
-            self.fault("L4", node, "a nested function")
+        if not isinstance(parent, (ast.Module, ast.ClassDef)) and not self.is_nested_once(node):
+            self.fault("L4", node, "a function that is nested twice, or not right in the rows of another")
         taken = node.args
         if node.decorator_list or taken.posonlyargs or taken.vararg or taken.kwarg or taken.kwonlyargs:
             self.fault("L4", node, "a decorator, or a star or stroke among the parameters")
@@ -322,19 +322,43 @@ class FileCheck:
                     self.fault("L28", part, "__init__ returns something")
         self.check_names(node)
 
-    def check_names(self, node):
+    def is_nested_once(self, node):
+        parent = self.parents[node]
+        return isinstance(parent, ast.FunctionDef) and isinstance(self.parents[parent], (ast.Module, ast.ClassDef))
+
+    def own_nodes(self, node):
+        """All that stands in a function, but not in those that are nested in it."""
+        found = []
+        waiting = list(ast.iter_child_nodes(node))
+        while waiting:
+            part = waiting.pop()
+            found.append(part)
+            if not isinstance(part, ast.FunctionDef):
+                waiting += ast.iter_child_nodes(part)
+        return found
+
+    def local_names(self, node):
         local = {one.arg for one in node.args.args}
-        for part in ast.walk(node):
+        for part in self.own_nodes(node):
             if isinstance(part, ast.Name) and isinstance(part.ctx, ast.Store):
                 local.add(part.id)
+            if isinstance(part, ast.FunctionDef):
+                local.add(part.name)
+        return local
+
+    def check_names(self, node):
+        local = self.local_names(node)
+        around = self.local_names(self.parents[node]) if self.is_nested_once(node) else set()
+        for name in sorted(local & around):
+            self.fault("L4", node, f"{name} is a name of the function around it")
         barred = set(self.imported) | self.package.classes() | set(dir(builtins))
         for name in sorted(local):
             if name in barred:
                 self.fault("L15", node, f"{name} is a class, an import or a builtin")
             if name in self.globals:
                 self.fault("L15", node, f"{name} is a name of the module")
-        known = local | self.globals | CALLED_BUILTINS | ERROR_BUILTINS | KIND_NAMES | {"super"}
-        for part in ast.walk(node):
+        known = local | around | self.globals | CALLED_BUILTINS | ERROR_BUILTINS | KIND_NAMES | {"super"}
+        for part in self.own_nodes(node):
             if isinstance(part, ast.Name) and part.id not in known:
                 self.fault("L8", part, f"{part.id} is not known")
 

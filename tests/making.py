@@ -265,3 +265,93 @@ def all_ways(table, many, one, other):
     """Every way of so many steps, as tuples rise."""
     for between in itertools.product(range(len(table)), repeat=many - 1):
         yield (one, *between, other)
+
+
+def cost_table(many, cost):
+    """Point 17's costs as a table: numbers just at i < k."""
+    return tuple(tuple(cost(i, k) if i < k else None for k in range(many + 1)) for i in range(many))
+
+
+def any_costs(chance, many):
+    """Costs that bend, as a table, with few or with many ties, few or many stretches worth their cost."""
+    kind = chance.randrange(4)
+    if kind == 0:
+        stretches = tuple((i + 1, many) for i in range(many))
+        slack, step = chance.choice(((0, 0), (1, 0), (1, 1), (2, 5), (50, 3), (3, 400), (10 ** 50, 10 ** 60)))
+        return bending_table(chance, stretches, many + 1, slack, step)
+    far = chance.choice((0, 1, many, 20 * many, 10 ** 30))
+    places = sorted(chance.randint(-far, far) for _ in range(many + 1))
+    fee = chance.choice((0, 1, far, far * far // (many + 1), far * far))
+    if kind == 1:
+        return cost_table(many, lambda i, k: (places[k] - places[i]) ** 2 + fee)
+    if kind == 2:
+        # Adding any number for where a stretch begins, and any for where it ends, keeps what bends.
+        befores, behinds, weight = any_row(chance, many), any_row(chance, many + 1), chance.choice((0, 1, 2, 6))
+        return cost_table(many, lambda i, k: (k - i) ** 2 * weight + befores[i] + behinds[k])
+    return cost_table(many, lambda i, k: abs(places[k] - places[i] - far // 3) + fee)
+
+
+def plain_planned(table):
+    """Point 18, word by word, from the first thing on."""
+    worths, froms = [0], []
+    for j in range(1, len(table) + 1):
+        costs = [worths[i] + table[i][j] for i in range(j)]
+        worths.append(min(costs))
+        froms.append(costs.index(min(costs)))
+    return (tuple(worths), tuple(froms))
+
+
+def all_plans(many):
+    """Every plan of so many things."""
+    for count in range(many):
+        for inner in itertools.combinations(range(1, many), count):
+            yield (0, *inner, many)
+
+
+def plan_cost(table, cuts):
+    """What a plan costs."""
+    return sum(table[one][other] for one, other in zip(cuts, cuts[1:]))
+
+
+def any_web(chance, rows, columns):
+    """A web with few or many links that lack, small or great lengths."""
+    most = chance.choice((0, 1, 2, 9, 10 ** 9))
+    lack = chance.choice((0, 0, 0.1, 0.3, 0.6))
+
+    def link():
+        return None if chance.random() < lack else chance.randint(-most, most)
+
+    return (
+        tuple(chance.randint(-most, most) for _ in range(rows)),
+        tuple(tuple(link() for _ in range(columns - 1)) for _ in range(rows)),
+        tuple(tuple(link() for _ in range(columns)) for _ in range(rows - 1)),
+        tuple(chance.randint(-most, most) for _ in range(columns)),
+    )
+
+
+def way_length(web, row, column, way):
+    """What a way is long, None where a link lacks or it does not lead there."""
+    ins, rights, ups, outs = web
+    at, over, total = row, 0, ins[row] + outs[column]
+    for letter in way:
+        if letter == "r":
+            link = rights[at][over] if over + 1 < len(outs) else None
+            over += 1
+        else:
+            link = ups[at - 1][over] if at > 0 else None
+            at -= 1
+        if link is None:
+            return None
+        total += link
+    return total if (at, over) == (0, column) else None
+
+
+def web_ways(web, row, column):
+    """Every way from a row to a column, as texts rise, with its length."""
+    found = []
+    for rights in itertools.combinations(range(row + column), column):
+        way = "".join("r" if at in rights else "u" for at in range(row + column))
+        length = way_length(web, row, column, way)
+        if length is not None:
+            found.append((way, length))
+    return sorted(found)

@@ -33,6 +33,18 @@ def told(things):
         if row > LIMIT:
             return (at, *rows)
     return tuple(row * 2 for row in rows)
+
+
+def nested(things, start):
+    """What is told by a nested function."""
+
+    def sum_to(end):
+        total = start
+        for thing in things[:end]:
+            total += thing
+        return total
+
+    return [sum_to(at + 1) for at in range(len(things))]
 '''
 
 OTHER = '''"""Another file."""
@@ -72,7 +84,13 @@ BAD_FILES = (
     ("L2", "LIMIT = 1\nfrom bendtables.other import helped"), ("L2", "from bendtables.none import one"),
     ("L16", "from bendtables.other import missing"), ("L3", "ROWS = [1]"), ("L3", "for x in 'ab':\n    pass"), ("L3", "MANY = len('ab')"),
     ("L4", "def f(*rest):\n    return rest"), ("L4", "def f(a, /):\n    return a"), ("L4", "def f(a=[]):\n    return a"),
-    ("L4", "def f():\n    def g():\n        return 1\n    return g()"), ("L4", "@f\ndef f():\n    return 1"),
+    ("L4", "def f(a):\n    def g():\n        a = 1\n        return a\n    return g()"), ("L4", "@f\ndef f():\n    return 1"),
+    ("L4", "def f(a):\n    def g(a):\n        return a\n    return g(1)"), ("L6", "def f(a):\n    def g():\n        nonlocal a\n    g()"),
+    ("L4", "def f(a):\n    if a:\n        def g():\n            return 1\n    return a"),
+    ("L4", "def f():\n    def g():\n        def h():\n            return 1\n        return h()\n    return g()"),
+    ("L8", "def f():\n    def g():\n        return b\n    return g()"), ("L8", "def f():\n    def g(b):\n        return b\n    return b"),
+    ("L8", "def f():\n    def g():\n        b = 1\n        return b\n    return g() + b"), ("L15", "def f():\n    def len():\n        return 1"),
+    ("L15", "def f():\n    def f():\n        return 1"), ("L10", "def f():\n    def g():\n" + "        x = 1\n" * 40),
     ("L5", "class A:\n    def __hash__(self):\n        return 1"), ("L5", "class A(dict):\n    pass"), ("L5", "class A:\n    many = 1"),
     ("L15", "def f():\n    return 1\n\n\ndef f():\n    return 2"), ("L15", "def f():\n    class A:\n        pass"),
     ("L18", "class A:\n    def f(self):\n        return 1\n\n    def f(self):\n        return 2"),
