@@ -291,6 +291,16 @@ def any_costs(chance, many):
     return cost_table(many, lambda i, k: abs(places[k] - places[i] - far // 3) + fee)
 
 
+def all_small_costs():
+    """Every table of costs of few things and few small numbers that bends."""
+    for many, numbers in ((1, (-1, 0, 1)), (2, (-1, 0, 1, 2)), (3, (-1, 0, 1)), (4, (0, 1))):
+        for flat in itertools.product(numbers, repeat=many * (many + 1) // 2):
+            left = list(flat)
+            table = cost_table(many, lambda i, k: left.pop())
+            if not crooks(table):
+                yield table
+
+
 def plain_planned(table):
     """Point 18, word by word, from the first thing on."""
     worths, froms = [0], []
@@ -327,6 +337,15 @@ def any_web(chance, rows, columns):
         tuple(tuple(link() for _ in range(columns)) for _ in range(rows - 1)),
         tuple(chance.randint(-most, most) for _ in range(columns)),
     )
+
+
+def all_small_webs():
+    """Every web of some small sizes, with few small lengths."""
+    for links in itertools.product((None, 0, 1), repeat=4):
+        for ins in itertools.product((0, 3), repeat=2):
+            yield (ins, (links[0:1], links[1:2]), (links[2:4],), (5, -5))
+    for links in itertools.product((None, 0), repeat=12):
+        yield ((0, 0, 0), (links[0:2], links[2:4], links[4:6]), (links[6:9], links[9:12]), (0, 0, 0))
 
 
 def way_length(web, row, column, way):

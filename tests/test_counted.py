@@ -7,7 +7,7 @@ from bendtables.counted import planned_in, worths_by_count
 from bendtables.errors import NoFit
 from bendtables.joining import bends_up
 from tests.making import (
-    CountedLook, all_plans, all_tables, any_costs, cost_table, crooks, kinds_of, plan_cost, plain_bends_up, things,
+    CountedLook, all_plans, all_small_costs, any_costs, cost_table, kinds_of, plan_cost, plain_bends_up, things,
 )
 
 
@@ -75,13 +75,9 @@ class PlannedInTest(unittest.TestCase):
                 planned_in(CountedLook(table), 2, thing)
 
     def test_all_small_costs(self):
-        for many, numbers in ((2, (-1, 0, 1, 2)), (3, (-1, 0, 1)), (4, (0, 1))):
-            for flat in all_tables(1, many * (many + 1) // 2, numbers):
-                left = list(flat[0])
-                table = cost_table(many, lambda i, k: left.pop())
-                if not crooks(table):
-                    for count in range(1, many + 1):
-                        self.check(table, count)
+        for table in all_small_costs():
+            for count in range(1, len(table) + 1):
+                self.check(table, count)
 
     def test_it_is_the_least_of_all_plans_read_back_by_the_least_cuts(self):
         chance = random.Random(191)
@@ -145,12 +141,8 @@ class WorthsByCountTest(unittest.TestCase):
         self.assertEqual(worths_by_count(CountedLook(((None, -3),)), 1), (-3,))
 
     def test_all_small_costs(self):
-        for many, numbers in ((2, (-1, 0, 1, 2)), (3, (-1, 0, 1)), (4, (0, 1))):
-            for flat in all_tables(1, many * (many + 1) // 2, numbers):
-                left = list(flat[0])
-                table = cost_table(many, lambda i, k: left.pop())
-                if not crooks(table):
-                    self.check(table)
+        for table in all_small_costs():
+            self.check(table)
 
     def test_any_costs(self):
         chance = random.Random(194)

@@ -5,7 +5,7 @@ import unittest
 
 from bendtables.plans import cuts_by, planned
 from tests.making import (
-    CountedLook, all_plans, all_tables, any_costs, cost_table, crooks, kinds_of, plan_cost, plain_planned,
+    CountedLook, all_plans, all_small_costs, any_costs, cost_table, kinds_of, plan_cost, plain_planned,
 )
 
 
@@ -37,12 +37,8 @@ class PlannedTest(unittest.TestCase):
         self.assertEqual(planned(CountedLook(((None, 1, 3), (None, None, 3))), 2), ((0, 1, 3), (0, 0)))
 
     def test_all_small_costs(self):
-        for many, numbers in ((1, (-1, 0, 1)), (2, (-1, 0, 1, 2)), (3, (-1, 0, 1)), (4, (0, 1))):
-            for flat in all_tables(1, many * (many + 1) // 2, numbers):
-                left = list(flat[0])
-                table = cost_table(many, lambda i, k: left.pop())
-                if not crooks(table):
-                    self.check(table)
+        for table in all_small_costs():
+            self.check(table)
 
     def test_it_is_the_least_of_all_plans(self):
         chance = random.Random(180)
@@ -51,7 +47,7 @@ class PlannedTest(unittest.TestCase):
             table = any_costs(chance, many)
             worths, froms = self.check(table)
             for j in range(1, many + 1):
-                plans = [plan for plan in all_plans(j)]
+                plans = list(all_plans(j))
                 least = min(plan_cost(table, plan) for plan in plans)
                 self.assertEqual(worths[j], least)
                 self.assertEqual(froms[j - 1], min(plan[-2] for plan in plans if plan_cost(table, plan) == least))

@@ -5,7 +5,7 @@ import random
 import unittest
 
 from bendtables.webs import is_web, web_table, web_way
-from tests.making import altered, any_web, copied, crooks, kinds_of, things, way_length, web_ways
+from tests.making import all_small_webs, altered, any_web, copied, crooks, kinds_of, things, way_length, web_ways
 
 GREAT = 10 ** 9
 ONE_KNOT = ((5,), ((),), (), (7,))
@@ -145,14 +145,8 @@ class WebTableTest(unittest.TestCase):
         self.assertEqual(web_table(((0, 0), ((None,), (None,)), ((None, None),), (1, 2))), ((1, None), (None, None)))
 
     def test_all_small_webs(self):
-        numbers = (None, 0, 1)
-        for rights in itertools.product(itertools.product(numbers, repeat=1), repeat=2):
-            for ups in itertools.product(itertools.product(numbers, repeat=2), repeat=1):
-                for ins in itertools.product((0, 3), repeat=2):
-                    self.check((ins, rights, ups, (5, -5)))
-        for links in itertools.product((None, 0), repeat=12):
-            rights = (links[0:2], links[2:4], links[4:6])
-            self.check(((0, 0, 0), rights, (links[6:9], links[9:12]), (0, 0, 0)))
+        for web in all_small_webs():
+            self.check(web)
 
     def test_any_webs(self):
         chance = random.Random(212)
@@ -219,13 +213,8 @@ class WebWayTest(unittest.TestCase):
         self.assertEqual(web_way(((0, 0), ((1,), (0,)), ((0, 1),), (0, 0)), 1, 1), "ru")
 
     def test_all_small_webs(self):
-        numbers = (None, 0, 1)
-        for rights in itertools.product(itertools.product(numbers, repeat=1), repeat=2):
-            for ups in itertools.product(itertools.product(numbers, repeat=2), repeat=1):
-                self.check(((0, 3), rights, ups, (5, -5)))
-        for links in itertools.product((None, 0), repeat=12):
-            rights = (links[0:2], links[2:4], links[4:6])
-            self.check(((0, 0, 0), rights, (links[6:9], links[9:12]), (0, 0, 0)))
+        for web in all_small_webs():
+            self.check(web)
 
     def test_any_webs(self):
         chance = random.Random(214)
