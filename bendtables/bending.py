@@ -1,5 +1,7 @@
 """Whether tables bend, where they are crooked, and the slacks of stepped ones."""
 
+from bendtables.errors import Crooked
+
 
 def bends(table):
     """Whether a table bends."""
@@ -79,3 +81,11 @@ def slack(upper, lower, left):
 def short_of(table):
     """The short rule of a full table."""
     return ("short", tuple(row[0] for row in table), table[0], slacks(table))
+
+
+def refuse_crooked(part, row, column):
+    """Crooked where a part of a full table, whose first place is this one of the table, does not bend."""
+    for upper, line in enumerate(slacks(part)):
+        for left, number in enumerate(line):
+            if number < 0:
+                raise Crooked(row + upper, column + left)

@@ -4,6 +4,12 @@ import copy
 import itertools
 import random
 
+# Full tables that do not bend, each with the first place at which a slack is below 0.
+CROOKED_TABLES = (
+    (((0, 0), (0, 1)), (0, 0)), (((0, 0, 0), (0, 0, 1)), (0, 1)), (((0, 0), (0, 0), (0, 1)), (1, 0)),
+    (((0, 0, 0), (0, 0, 1), (0, 1, 5)), (0, 1)), (((0, 5, 5), (0, 0, 1), (0, 3, 4)), (0, 1)),
+)
+
 
 def is_crooked_at(table, i, j, k, l):
     """Point 7, word by word."""
@@ -19,6 +25,28 @@ def crooks(table):
     pairs = list(itertools.combinations(range(len(table)), 2))
     columns = list(itertools.combinations(range(len(table[0])), 2))
     return [(i, j, k, l) for i, j in pairs for k, l in columns if is_crooked_at(table, i, j, k, l)]
+
+
+def plain_slack(table, i, k):
+    """Point 8, word by word."""
+    if table[i][k + 1] is None or table[i + 1][k] is None:
+        return None
+    return table[i][k + 1] + table[i + 1][k] - table[i][k] - table[i + 1][k + 1]
+
+
+def plain_slacks(table):
+    """The slacks of a stepped table."""
+    rows, columns = len(table), len(table[0])
+    return tuple(tuple(plain_slack(table, i, k) for k in range(columns - 1)) for i in range(rows - 1))
+
+
+def first_slack_below(table):
+    """Point 22's first place, word by word, None where there is none."""
+    rows, columns = len(table), len(table[0])
+    for i, k in itertools.product(range(rows - 1), range(columns - 1)):
+        if plain_slack(table, i, k) < 0:
+            return (i, k)
+    return None
 
 
 def steps_right(table):
@@ -374,3 +402,39 @@ def web_ways(web, row, column):
         if length is not None:
             found.append((way, length))
     return sorted(found)
+
+
+def rows_that_bend(table):
+    """Every choice of rows, in order, whose table bends, by all choices of one row or more."""
+    for many in range(1, len(table) + 1):
+        for rows in itertools.combinations(range(len(table)), many):
+            if not crooks(tuple(table[i] for i in rows)):
+                yield rows
+
+
+def most_that_stay(table):
+    """Point 23: how many rows can stay and bend, by all choices."""
+    return max(len(rows) for rows in rows_that_bend(table))
+
+
+def mend_sum(table, mend):
+    """Point 24: by how much the entries differ, together."""
+    return sum(abs(number - other) for row, under in zip(table, mend) for number, other in zip(row, under))
+
+
+def rises_of(table):
+    """What stands below less what stands above, of two rows."""
+    return [below - above for above, below in zip(*table)]
+
+
+def least_mend_sum(table):
+    """The least sum of a mend of two rows, column by column over all rises that a mend may have there.
+
+    What a mend adds to a column's rise it adds to one of its entries or shares among both, so it is no less than that;
+    and some mend of the least sum has no rises but those of the table.
+    """
+    rises = rises_of(table)
+    best = {rise: 0 for rise in rises}
+    for rise in rises:
+        best = {other: min(best[ahead] for ahead in best if ahead >= other) + abs(rise - other) for other in best}
+    return min(best.values())

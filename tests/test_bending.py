@@ -6,19 +6,9 @@ import unittest
 from bendtables.bending import bends, crook_of, short_of, slacks
 from bendtables.rules import is_rule, table_by
 from bendtables.tables import is_full
-from tests.making import all_small_tables, all_tables, bending_tables, crooks, is_crooked_at, kinds_of, steps_right
-
-
-def plain_slack(table, i, k):
-    """Point 8, word by word."""
-    if table[i][k + 1] is None or table[i + 1][k] is None:
-        return None
-    return table[i][k + 1] + table[i + 1][k] - table[i][k] - table[i + 1][k + 1]
-
-
-def plain_slacks(table):
-    rows, columns = len(table), len(table[0])
-    return tuple(tuple(plain_slack(table, i, k) for k in range(columns - 1)) for i in range(rows - 1))
+from tests.making import (
+    all_small_tables, all_tables, bending_tables, crooks, is_crooked_at, kinds_of, plain_slacks, steps_right,
+)
 
 
 def mixed_tables():
