@@ -6,7 +6,8 @@ import unittest
 from bendtables.errors import BendError, Crooked, NoFit, NoPlace, TooMany
 from bendtables.kept import Kept
 from tests.making import (
-    CROOKED_TABLES, all_tables, any_full_table, crooks, first_slack_below, full_bending_table, kinds_of, plain_least, plain_slacks, things,
+    CROOKED_TABLES, all_tables, any_full_table, crooks, first_slack_below, full_bending_table, kinds_of, plain_least,
+    plain_slacks, things,
 )
 
 SQUARE = ((1, 4, 16), (1, 0, 4), (16, 9, 1))

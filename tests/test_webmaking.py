@@ -7,7 +7,8 @@ from bendtables.errors import BendError, Crooked
 from bendtables.webmaking import web_of
 from bendtables.webs import is_web, web_table
 from tests.making import (
-    CROOKED_TABLES, all_tables, any_full_table, bending_table, copied, crooks, first_slack_below, full_bending_table, kinds_of, web_ways,
+    CROOKED_TABLES, all_tables, any_full_table, bending_table, copied, crooks, first_slack_below, full_bending_table,
+    kinds_of, web_ways,
 )
 
 GREAT = 10 ** 9
