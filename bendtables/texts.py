@@ -52,13 +52,16 @@ def read_entry(word):
     """The number, or None, of a word."""
     if word == ".":
         return None
-    figures = word.removeprefix("-")
-    if not are_figures(figures):
+    if not is_written_number(word):
         raise NoText("a word is neither a number of at most thirty figures nor a point")
-    # This also bars "-0", which is not below 0.
-    if figures[0] == "0" and word != "0":
-        raise NoText("a number has a nought ahead")
     return int(word)
+
+
+def is_written_number(word):
+    """Whether a word is a number of at most thirty figures, without noughts ahead."""
+    figures = word.removeprefix("-")
+    # The nought that stands alone is not below 0, so "-0" is none either.
+    return are_figures(figures) and (figures[0] != "0" or word == "0")
 
 
 def are_figures(text):

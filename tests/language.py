@@ -17,7 +17,7 @@ PACKAGE = "bendtables"
 
 CALLED_BUILTINS = {
     "len", "range", "enumerate", "zip", "min", "max", "sum", "abs", "sorted", "reversed", "int", "str", "bool", "list",
-    "tuple", "dict", "isinstance", "ord", "repr", "any", "all", "divmod",
+    "tuple", "dict", "set", "isinstance", "ord", "repr", "any", "all", "divmod",
 }
 ERROR_BUILTINS = {"ValueError", "Exception", "KeyError", "IndexError", "LookupError", "ArithmeticError", "RuntimeError"}
 KIND_NAMES = {"int", "str", "bool", "bytes", "list", "tuple", "dict"}
@@ -497,15 +497,17 @@ class FileCheck:
                 self.fault("L25", node, f"{name} with a keyword")
             if name in AT_ONCE_METHODS:
                 self.check_at_once(node)
-            for own in self.package.methods.get(name, []):
-                self.check_count(node, own.args, 1)
+            # Which class it is cannot be seen, so it is enough that one of them takes so many.
+            owns = self.package.methods.get(name, [])
+            if owns and not any(self.is_count(node, own.args, 1) for own in owns):
+                self.fault("L22", node, "not as many arguments as it takes")
         else:
             self.fault("L7", node, "a call of something else than a name or a method")
 
     def check_plain_call(self, node, name):
         if name in AT_ONCE:
             self.check_at_once(node)
-        if name in ("set", "frozenset"):
+        if name in ("set", "frozenset") and not self.is_counted_set(node):
             self.fault("L24", node, "a set")
         if name in ("bytes", "chr"):
             self.fault("L7" if name == "bytes" else "L27", node, f"{name}(..)")
@@ -528,13 +530,23 @@ class FileCheck:
             if inits:
                 self.check_count(node, inits[0].args, 1)
 
+    def is_counted_set(self, node):
+        """Whether it is `len(set(..))` or `sorted(set(..))`."""
+        parent = self.parents[node]
+        if own_name(node) != "set" or not isinstance(parent, ast.Call) or not isinstance(parent.func, ast.Name):
+            return False
+        return parent.func.id in ("len", "sorted") and parent.args == [node] and not parent.keywords
+
     def check_count(self, node, taken, own):
+        if not self.is_count(node, taken, own):
+            self.fault("L22", node, "not as many arguments as it takes")
+
+    def is_count(self, node, taken, own):
         if any(isinstance(one, ast.Starred) for one in node.args):
-            return
+            return True
         given = len(node.args) + len(node.keywords)
         most = len(taken.args) - own
-        if not most - len(taken.defaults) <= given <= most:
-            self.fault("L22", node, "not as many arguments as it takes")
+        return most - len(taken.defaults) <= given <= most
 
     def check_at_once(self, node):
         parent = self.parents[node]

@@ -49,6 +49,13 @@ def first_slack_below(table):
     return None
 
 
+def plain_bend(table):
+    """Point 25, word by word; bending by all two by twos."""
+    one = not crooks(table)
+    other = all(slack <= 0 for row in plain_slacks(table) for slack in row)
+    return {(True, True): "both", (True, False): "one", (False, True): "other", (False, False): "none"}[(one, other)]
+
+
 def steps_right(table):
     """Point 4's stepped, word by word."""
     ahead = None
@@ -438,3 +445,94 @@ def least_mend_sum(table):
     for rise in rises:
         best = {other: min(best[ahead] for ahead in best if ahead >= other) + abs(rise - other) for other in best}
     return min(best.values())
+
+
+def is_plain_table(thing):
+    """Point 4's table, word by word, of anything."""
+    if type(thing) is not tuple or not thing or any(type(row) is not tuple or not row for row in thing):
+        return False
+    if len({len(row) for row in thing}) > 1:
+        return False
+    return all(number is None or type(number) is int for row in thing for number in row)
+
+
+def is_plain_full_table(thing):
+    """A table without places where nothing stands."""
+    return is_plain_table(thing) and all(number is not None for row in thing for number in row)
+
+
+def plain_shown(table, thing):
+    """Point 24's twos, word by word: by how much the table is crooked at all of them, None of no twos."""
+    if type(thing) is not tuple or any(type(place) is not tuple or len(place) != 4 for place in thing):
+        return None
+    if any(type(number) is not int for place in thing for number in place):
+        return None
+    if list(thing) != sorted(thing) or any(place not in crooks(table) for place in thing):
+        return None
+    taken = [{(i, k), (i, l), (j, k), (j, l)} for i, j, k, l in thing]
+    if any(one & other for one, other in itertools.combinations(taken, 2)):
+        return None
+    return sum(table[i][k] + table[j][l] - table[i][l] - table[j][k] for i, j, k, l in thing)
+
+
+def is_plain_mended(table, thing):
+    """Point 24's (sum, mend, pairs) of two rows, word by word."""
+    if type(thing) is not tuple or len(thing) != 3:
+        return False
+    total, mend, pairs = thing
+    if type(total) is not int or total != least_mend_sum(table):
+        return False
+    if not is_plain_full_table(mend) or (len(mend), len(mend[0])) != (2, len(table[0])):
+        return False
+    if crooks(mend) or mend_sum(table, mend) != total:
+        return False
+    if type(pairs) is not tuple or any(type(pair) is not tuple or len(pair) != 2 for pair in pairs):
+        return False
+    if any(type(column) is not int or not 0 <= column < len(table[0]) for pair in pairs for column in pair):
+        return False
+    columns = [column for pair in pairs for column in pair]
+    if list(pairs) != sorted(pairs) or any(k >= l for k, l in pairs) or len(columns) != len(set(columns)):
+        return False
+    rises = rises_of(table)
+    return all(rises[l] > rises[k] for k, l in pairs) and sum(rises[l] - rises[k] for k, l in pairs) == total
+
+
+def is_numbers_in(thing, many):
+    """Whether it is a tuple of whole numbers from 0 to below so many."""
+    return type(thing) is tuple and all(type(number) is int and 0 <= number < many for number in thing)
+
+
+def is_plain_gone(table, most, thing):
+    """Point 23, word by word, as many rows as can stay being known."""
+    if type(thing) is not tuple or len(thing) != 2:
+        return False
+    stays, levels = thing
+    if not is_numbers_in(stays, len(table)) or len(stays) != most or list(stays) != sorted(set(stays)):
+        return False
+    if crooks(tuple(table[row] for row in stays)):
+        return False
+    if not is_numbers_in(levels, most) or len(levels) != len(table):
+        return False
+    pairs = [(i, j) for i, j in itertools.combinations(range(len(table)), 2) if levels[i] == levels[j]]
+    return all(crooks((table[i], table[j])) for i, j in pairs)
+
+
+def is_plain_web(thing):
+    """Point 20's web, word by word, of anything."""
+    if type(thing) is not tuple or len(thing) != 4 or any(type(part) is not tuple for part in thing):
+        return False
+    ins, rights, ups, outs = thing
+    many, columns = len(ins), len(outs)
+    if many < 1 or columns < 1 or any(type(number) is not int for number in ins + outs):
+        return False
+    if len(rights) != many or len(ups) != many - 1 or any(type(line) is not tuple for line in rights + ups):
+        return False
+    if any(len(line) != columns - 1 for line in rights) or any(len(line) != columns for line in ups):
+        return False
+    return all(link is None or type(link) is int for line in rights + ups for link in line)
+
+
+def plain_web_table(web):
+    """The least length of all ways from each row to each column, None where there is none."""
+    lengths = [[[length for way, length in web_ways(web, row, column)] for column in range(len(web[3]))] for row in range(len(web[0]))]
+    return tuple(tuple(min(found, default=None) for found in line) for line in lengths)

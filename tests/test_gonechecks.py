@@ -7,35 +7,15 @@ import unittest
 from bendtables.going import stays_of
 from bendtables.gonechecks import stays_holds
 from tests.making import (
-    all_tables, altered, any_full_table, copied, crooks, full_bending_table, kinds_of, most_that_stay, things,
+    all_tables, altered, any_full_table, copied, full_bending_table, is_plain_gone, kinds_of, most_that_stay, things,
 )
 
 MIXED = ((0, 0, 0), (9, 0, 9), (0, 0, -1), (0, 9, 0), (0, 0, -5))
 
 
-def is_numbers_in(thing, many):
-    """Whether it is a tuple of whole numbers from 0 to below so many."""
-    return type(thing) is tuple and all(type(number) is int and 0 <= number < many for number in thing)
-
-
-def is_gone(table, most, thing):
-    """Point 23, word by word, as many rows as can stay being known."""
-    if type(thing) is not tuple or len(thing) != 2:
-        return False
-    stays, levels = thing
-    if not is_numbers_in(stays, len(table)) or len(stays) != most or list(stays) != sorted(set(stays)):
-        return False
-    if crooks(tuple(table[row] for row in stays)):
-        return False
-    if not is_numbers_in(levels, most) or len(levels) != len(table):
-        return False
-    pairs = [(i, j) for i, j in itertools.combinations(range(len(table)), 2) if levels[i] == levels[j]]
-    return all(crooks((table[i], table[j])) for i, j in pairs)
-
-
 class StaysHoldsTest(unittest.TestCase):
     def check(self, table, thing):
-        right = is_gone(table, most_that_stay(table), thing)
+        right = is_plain_gone(table, most_that_stay(table), thing)
         self.assertIs(stays_holds(table, thing), right, (table, thing))
         return right
 
@@ -82,7 +62,7 @@ class StaysHoldsTest(unittest.TestCase):
                             continue
                         for levels in itertools.product(range(-1, rows), repeat=rows):
                             told = stays_holds(table, (stays, levels))
-                            self.assertIs(told, is_gone(table, most, (stays, levels)), (table, stays, levels))
+                            self.assertIs(told, is_plain_gone(table, most, (stays, levels)), (table, stays, levels))
                             held += told
                 self.assertGreater(held, 0)
 
@@ -94,7 +74,7 @@ class StaysHoldsTest(unittest.TestCase):
             for thing in altered(right):
                 before = kinds_of(copied(thing))
                 told = stays_holds(table, thing)
-                self.assertIs(told, is_gone(table, most, thing), (table, thing))
+                self.assertIs(told, is_plain_gone(table, most, thing), (table, thing))
                 self.assertEqual(kinds_of(thing), before)
                 held += told
             self.assertLess(held, 20)

@@ -25,6 +25,18 @@ class Box:
         return Box(self.many + by)
 
 
+class Bag:
+    """A bag, whose method takes other arguments than that of a box."""
+
+    def more(self, one, other, third):
+        return one + other + third
+
+
+def counted(things, bag):
+    """How many unlike ones there are."""
+    return bag.more(len(set(things)), len(sorted(set(things))), things.more())
+
+
 def told(things):
     """What is told."""
     rows = [helped(thing) for thing in things if thing is not None]
@@ -70,9 +82,11 @@ BAD_ROWS = (
     ("L18", "return things.colour"), ("L19", "raise things"), ("L19", "raise ValueError"), ("L19", "raise ValueError('x')"),
     ("L20", "return things is LIMIT"), ("L20", "return things is 1"), ("L21", "many: int = 1"), ("L22", "return helped(1, 2)"),
     ("L22", "return helped()"), ("L22", "return Box()"), ("L22", "return isinstance(1, things)"), ("L22", "return sorted(things, bad=1)"),
-    ("L22", "f = len"), ("L22", "return things.more(1, 2)"), ("L23", "return range(3)"), ("L23", "x = things.items()"),
+    ("L22", "f = len"), ("L22", "return things.more(1, 2)"), ("L22", "return things.more(1, 2, 3, 4)"), ("L23", "return range(3)"), ("L23", "x = things.items()"),
     ("L23", "for x in things: things.append(x)"), ("L23", "for x in zip(things, things): things[0] = x"),
     ("L24", "return {1, 2}"), ("L24", "return set(things)"), ("L24", "return {x for x in things}"), ("L25", "return things.isprime()"),
+    ("L24", "return sum(set(things))"), ("L24", "return sorted(set(things), reverse=True)"), ("L24", "return len(frozenset(things))"),
+    ("L24", "return [x for x in set(things)]"), ("L24", "return things.len(set(things))"), ("L22", "f = set"),
     ("L25", "return things.append"), ("L26", "things.hex = 1"), ("L27", "return 2 ** LIMIT"), ("L27", "return 10 ** 65"),
     ("L27", "return 'a%b'"), ("L27", "return '\\x41'"), ("L27", "return 'a._'"), ("L27", "return chr(65)"), ("L10", "x = 1" + " " * 120 + "+ 1"),
     ("L14", "return 'caf\u00e9'"), ("L5", "return super(Box, things)"), ("L5", "return super().more()"),

@@ -5,7 +5,9 @@ import random
 import unittest
 
 from bendtables.webs import is_web, web_table, web_way
-from tests.making import all_small_webs, altered, any_web, copied, crooks, kinds_of, things, way_length, web_ways
+from tests.making import (
+    all_small_webs, altered, any_web, copied, crooks, is_plain_web, kinds_of, plain_web_table, things, way_length, web_ways,
+)
 
 GREAT = 10 ** 9
 ONE_KNOT = ((5,), ((),), (), (7,))
@@ -70,35 +72,21 @@ class IsWebTest(unittest.TestCase):
         for web in (ONE_KNOT, ((0, 1), ((), ()), ((0,),), (1,)), ((0,), ((0, 1),), (), (1, 0, 1)), WEB):
             for thing in altered(web):
                 # Another number, or none for a link, makes another web.
-                if self.is_plainly_web(thing):
+                if is_plain_web(thing):
                     continue
                 self.assertIs(is_web(thing), False, thing)
             self.assertIs(is_web(web), True)
 
-    def is_plainly_web(self, thing):
-        """By the words of point 20."""
-        if type(thing) is not tuple or len(thing) != 4 or any(type(part) is not tuple for part in thing):
-            return False
-        ins, rights, ups, outs = thing
-        many, columns = len(ins), len(outs)
-        if many < 1 or columns < 1 or any(type(number) is not int for number in ins + outs):
-            return False
-        if len(rights) != many or len(ups) != many - 1 or any(type(line) is not tuple for line in rights + ups):
-            return False
-        if any(len(line) != columns - 1 for line in rights) or any(len(line) != columns for line in ups):
-            return False
-        return all(link is None or type(link) is int for line in rights + ups for link in line)
-
     def test_other_webs_are_let_by(self):
         for web in (ONE_KNOT, WEB, ((0, 1), ((), ()), ((0,),), (1,))):
             for thing in altered(web):
-                self.assertIs(is_web(thing), self.is_plainly_web(thing), thing)
+                self.assertIs(is_web(thing), is_plain_web(thing), thing)
 
     def test_things_of_other_kinds(self):
         for thing in things():
             before = kinds_of(copied(thing))
             for whole in (thing, (thing,) * 4, (thing, ((),), (), (7,)), ((5,), thing, (), (7,)), ((5,), ((),), (), thing)):
-                self.assertIs(is_web(whole), self.is_plainly_web(whole), whole)
+                self.assertIs(is_web(whole), is_plain_web(whole), whole)
             self.assertIs(is_web(thing), False, thing)
             self.assertEqual(kinds_of(thing), before)
 
@@ -118,15 +106,9 @@ class IsWebTest(unittest.TestCase):
 
 class WebTableTest(unittest.TestCase):
     def check(self, web):
-        right = []
-        for row in range(len(web[0])):
-            line = []
-            for column in range(len(web[3])):
-                lengths = [length for way, length in web_ways(web, row, column)]
-                line.append(min(lengths) if lengths else None)
-            right.append(tuple(line))
-        self.assertEqual(kinds_of(web_table(web)), kinds_of(tuple(right)), web)
-        self.assertEqual(crooks(tuple(right)), [])
+        right = plain_web_table(web)
+        self.assertEqual(kinds_of(web_table(web)), kinds_of(right), web)
+        self.assertEqual(crooks(right), [])
 
     def test_told(self):
         self.assertEqual(web_table(WEB), ((100, 201, 303), (115, 216, 318)))
